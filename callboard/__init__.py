@@ -1,0 +1,1 @@
+"""Callboard: calls, wishes, and where two of them clash."""
