@@ -30,6 +30,13 @@ WORDS = re.compile(
     r"|NamedTuple|TypedDict|TYPE_CHECKING|abstractmethod)\b|dataclass|overload|contextmanager"
 )
 OTHERS = set().union(*[dir(kind) for kind in (str, int, list, dict, set, bytes, tuple)])
+LISTED = set(
+    "append clear copy count endswith extend find get index insert isalnum isalpha isdigit islower isspace isupper items "
+    "join keys ljust lower lstrip partition pop remove replace reverse rfind rjust rpartition rsplit rstrip setdefault "
+    "split splitlines startswith strip update upper values zfill bit_length".split()
+)
+WALKED = {"zip", "enumerate", "reversed", "range"}
+WALKERS = {"list", "tuple", "dict", "sorted", "sum", "any", "all", "enumerate", "zip", "min", "max"}
 VALUES_ALLOWED = set("count index title find get join lower upper split strip copy add".split())
 
 
@@ -135,6 +142,79 @@ class Language(unittest.TestCase):
         self.assertEqual(values & methods, set())
         self.assertEqual(values & OTHERS - VALUES_ALLOWED, set())
         self.assertEqual(methods & OTHERS - METHODS - VALUES_ALLOWED, set())
+
+    def test_methods_are_listed_or_own_and_called_where_they_stand(self):
+        values, methods = values_and_methods()
+        called = {id(node.func) for path, node in nodes(ast.Call)}
+        for path, node in nodes(ast.Attribute):
+            if id(node) in called:
+                self.assertIn(node.attr, LISTED | methods, (path, node.lineno))
+            else:
+                self.assertIn(node.attr, values, (path, node.lineno))
+
+    def test_values_are_given_through_a_local_name(self):
+        for path, node in nodes(ast.Attribute):
+            if isinstance(node.ctx, ast.Store):
+                self.assertIsInstance(node.value, ast.Name, (path, node.lineno))
+
+    def test_no_local_is_called_like_a_class_or_an_import(self):
+        for path, tree in TREES.items():
+            kept = {drawn.name for node in tree.body if isinstance(node, ast.ImportFrom) for drawn in node.names}
+            kept |= {node.name for node in tree.body if isinstance(node, (ast.FunctionDef, ast.ClassDef))}
+            for node in ast.walk(tree):
+                if isinstance(node, ast.arg):
+                    self.assertNotIn(node.arg, kept, (path, node.lineno))
+                if isinstance(node, ast.Name) and isinstance(node.ctx, ast.Store):
+                    self.assertNotIn(node.id, kept, (path, node.lineno))
+
+    def test_names_of_a_files_top_are_bound_once_and_plain(self):
+        for path, tree in TREES.items():
+            bound = [node.targets[0].id for node in tree.body if isinstance(node, ast.Assign)]
+            bound += [node.name for node in tree.body if isinstance(node, (ast.FunctionDef, ast.ClassDef))]
+            self.assertEqual(len(bound), len(set(bound)), path)
+            for node in tree.body:
+                if isinstance(node, ast.Assign):
+                    ast.literal_eval(node.value)
+
+    def test_no_two_files_draw_from_one_another(self):
+        draws = {path.stem: set() for path in TREES}
+        for path, node in nodes(ast.ImportFrom):
+            draws[path.stem].add(node.module.split(".")[1])
+        while draws:
+            ends = {stem for stem, drawn in draws.items() if not drawn & set(draws)}
+            self.assertTrue(ends, draws)
+            draws = {stem: drawn for stem, drawn in draws.items() if stem not in ends}
+
+    def test_walked_on_the_spot(self):
+        spots = set()
+        for path, node in nodes((ast.For, ast.comprehension)):
+            spots.add(id(node.iter))
+        for path, node in nodes(ast.Call):
+            if isinstance(node.func, ast.Name) and node.func.id in WALKERS and node.args:
+                spots.add(id(node.args[0]))
+                if node.func.id == "zip":
+                    spots.update(id(part) for part in node.args)
+        for path, node in nodes(ast.Call):
+            named = isinstance(node.func, ast.Name) and node.func.id in WALKED
+            if named or isinstance(node.func, ast.Attribute) and node.func.attr in ("items", "keys", "values"):
+                self.assertIn(id(node), spots, (path, node.lineno))
+
+    def test_sets_stand_beside_a_comparison_or_within_sorted_or_len(self):
+        spots = set()
+        for path, node in nodes(ast.Compare):
+            spots.update(id(side) for side in [node.left] + node.comparators)
+        for path, node in nodes(ast.Call):
+            if isinstance(node.func, ast.Name) and node.func.id in ("sorted", "len"):
+                spots.update(id(part) for part in node.args)
+        for path, node in nodes(ast.Call):
+            if isinstance(node.func, ast.Name) and node.func.id in ("set", "frozenset"):
+                self.assertIn(id(node), spots, (path, node.lineno))
+        self.assertEqual(nodes(ast.Set), [])
+
+    def test_texts(self):
+        for path, node in nodes(ast.Constant):
+            if isinstance(node.value, str):
+                self.assertNotIn("%", node.value, (path, node.lineno))
 
 
 if __name__ == "__main__":
