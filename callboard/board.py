@@ -43,6 +43,18 @@ class Call:
     def waits_with(self, phone):
         return self.state == "waits" and phone in self.at
 
+    def pairs(self, phone):
+        """Whether the phone talks here with just one other."""
+        return self.talks_with(phone) and len(self.members) == 2
+
+    def can_be_left_by(self, phone):
+        # A caller whose call was handed over is a stranger to it from then on.
+        return self.is_tried_by(phone) or phone in self.at or phone in self.members
+
+    def other_than(self, phone):
+        """The other one of two members."""
+        return [member for member in self.members if member != phone][0]
+
 
 def end_call(call, word):
     call.state = "over"

@@ -22,6 +22,10 @@ class Wish:
     def fits(self, board, caller, target):
         return False
 
+    def is_due(self, call):
+        """Whether it sends on a call that rings, by the turns for which it has rung."""
+        return False
+
 
 class Bar(Wish):
     """A phone may not come to some names."""
@@ -99,9 +103,17 @@ class Busy(Forward):
 class Silent(Forward):
     """Calls that have rung for some turns go on."""
 
+    def __init__(self, told):
+        Forward.__init__(self, told)
+        self.turns = told[3]
+
     def fits(self, board, caller, target):
         # It acts when turns pass, never when a call comes.
         return False
+
+    def is_due(self, call):
+        # A call of a log that was cut off behind its first event has no way yet.
+        return call.way[-1:] == [self.target] and self.turns <= call.since
 
 
 class Wait(Wish):
