@@ -31,12 +31,17 @@ WORDS = re.compile(
 )
 OTHERS = set().union(*[dir(kind) for kind in (str, int, list, dict, set, bytes, tuple)])
 LISTED = set(
-    "append clear copy count endswith extend find get index insert isalnum isalpha isdigit islower isspace isupper items "
-    "join keys ljust lower lstrip partition pop remove replace reverse rfind rjust rpartition rsplit rstrip setdefault "
-    "split splitlines startswith strip update upper values zfill bit_length".split()
+    "append clear copy count endswith extend find get index insert isalnum isalpha isdigit islower isspace isupper "
+    "items join keys ljust lower lstrip partition pop remove replace reverse rfind rjust rpartition rsplit rstrip "
+    "setdefault split splitlines startswith strip update upper values zfill bit_length".split()
 )
 WALKED = {"zip", "enumerate", "reversed", "range"}
 WALKERS = {"list", "tuple", "dict", "sorted", "sum", "any", "all", "enumerate", "zip", "min", "max"}
+CHANGING = set("append clear extend insert pop remove reverse setdefault update".split())
+KEYWORDS = {
+    "sorted": ("key", "reverse"), "min": ("key", "default"), "max": ("key", "default"), "sum": ("start",),
+    "enumerate": ("start",), "zip": ("strict",),
+}
 VALUES_ALLOWED = set("count index title find get join lower upper split strip copy add".split())
 
 
@@ -211,7 +216,43 @@ class Language(unittest.TestCase):
                 self.assertIn(id(node), spots, (path, node.lineno))
         self.assertEqual(nodes(ast.Set), [])
 
+    def test_lists_and_dicts_of_a_files_top_hold_no_others(self):
+        for path, tree in TREES.items():
+            for node in tree.body:
+                if isinstance(node, ast.Assign):
+                    for part in ast.walk(node.value):
+                        if part is not node.value:
+                            self.assertNotIsInstance(part, (ast.List, ast.Dict, ast.Set), (path, node.lineno))
+
+    def test_errors_are_made_on_the_spot_and_taken_by_name(self):
+        own = {node.name for path, node in nodes(ast.ClassDef) if path.stem == "errors"}
+        for path, node in nodes(ast.Raise):
+            self.assertIsInstance(node.exc, ast.Call, (path, node.lineno))
+            self.assertIn(node.exc.func.id, own, (path, node.lineno))
+        for path, node in nodes(ast.ExceptHandler):
+            self.assertIsInstance(node.type, ast.Name, (path, node.lineno))
+            self.assertIn(node.type.id, own | {"KeyError", "ZeroDivisionError", "StopIteration"}, (path, node.lineno))
+
+    def test_keywords(self):
+        for path, node in nodes(ast.Call):
+            if node.keywords:
+                self.assertIsInstance(node.func, ast.Name, (path, node.lineno))
+                for keyword in node.keywords:
+                    self.assertIn(keyword.arg, KEYWORDS.get(node.func.id, ()), (path, node.lineno))
+
+    def test_no_loop_changes_what_it_walks(self):
+        for path, node in nodes(ast.For):
+            walked = {ast.unparse(part) for part in ast.walk(node.iter) if isinstance(part, (ast.Name, ast.Attribute))}
+            for part in ast.walk(node):
+                if isinstance(part, ast.Call) and isinstance(part.func, ast.Attribute) and part.func.attr in CHANGING:
+                    self.assertNotIn(ast.unparse(part.func.value), walked, (path, part.lineno))
+                if isinstance(part, ast.Subscript) and isinstance(part.ctx, ast.Store):
+                    self.assertNotIn(ast.unparse(part.value), walked, (path, part.lineno))
+
     def test_texts(self):
+        for path, node in nodes(ast.FormattedValue):
+            self.assertIsInstance(node.value, ast.Name, (path, node.lineno))
+            self.assertIsNone(node.format_spec, (path, node.lineno))
         for path, node in nodes(ast.Constant):
             if isinstance(node.value, str):
                 self.assertNotIn("%", node.value, (path, node.lineno))
